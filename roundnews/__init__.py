@@ -1,0 +1,1 @@
+"""Roundnews: news whose numbers come round."""
