@@ -81,3 +81,14 @@ def aged(life, news, many):
     if age + many >= life:
         return None
     return (teller, number, age + many, words)
+
+
+def alive_marks(life, marks):
+    """Tell the list of those marks whose age is below life."""
+    return [mark for mark in marks if mark[3] < life]
+
+
+def lacked(size, some, marks):
+    """Tell the list of those news of whose teller there's no mark, or than whose mark they are newer."""
+    known = {mark[0]: mark for mark in marks}
+    return [news for news in some if news[0] not in known or newer_mark(size, mark_of(news), known[news[0]])]

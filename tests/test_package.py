@@ -14,6 +14,18 @@ INTERFACE = {
     "news.py": {
         "is_words": 1, "is_news": 2, "sum_of": 1, "mark_of": 1, "newer_mark": 3, "newest": 2, "aged": 3,
     },
+    "makes.py": {"is_make": 1, "most_alive": 1, "jump": 1, "is_safe": 1, "least_round": 2},
+    "exchange.py": {"exchange": 3, "after": 4},
+}
+# How many arguments each method takes beside its own object; of __init__ those of the class.
+CLASSES = {
+    ("books.py", "Book"): {
+        "__init__": 2, "take": 1, "tick": 1, "held": 0, "news_of": 1, "marks": 0, "better": 1, "wanted": 1, "twin": 0,
+    },
+    ("houses.py", "House"): {
+        "__init__": 3, "join": 1, "part": 1, "wish": 1, "speak": 0, "lists": 0, "hear": 2, "tick": 0, "number": 0,
+        "own": 0, "has_wish": 0, "neighbours": 0, "held": 0,
+    },
 }
 ERRORS = {
     "NewsError": "ValueError", "NoHouse": "NewsError", "NoStreet": "NewsError", "BadText": "NewsError",
@@ -51,6 +63,15 @@ class Interface(unittest.TestCase):
                 self.assertIn(word, found)
                 self.assertEqual(len(found[word].args.args), many, word)
 
+    def test_classes_and_their_methods_are_defined_in_their_files(self):
+        for (name, word), wanted in CLASSES.items():
+            found = {node.name: node for node in tree_of(FOLDER / name).body if isinstance(node, ast.ClassDef)}
+            self.assertIn(word, found)
+            methods = {node.name: node for node in found[word].body if isinstance(node, ast.FunctionDef)}
+            for method, many in wanted.items():
+                self.assertIn(method, methods, word)
+                self.assertEqual(len(methods[method].args.args), 1 + many, (word, method))
+
     def test_errors_are_defined_in_their_file(self):
         body = tree_of(FOLDER / "errors.py").body
         found = {node.name: [base.id for base in node.bases] for node in body if isinstance(node, ast.ClassDef)}
@@ -87,6 +108,38 @@ class Language(unittest.TestCase):
         for path in files():
             given = set(bound_names(tree_of(path)))
             self.assertEqual(given & set(dir(builtins)), set(), path)
+
+    def test_no_name_of_an_import_or_a_class_is_given_away(self):
+        for path in files():
+            tree = tree_of(path)
+            taken = [alias.name for node in tree.body if isinstance(node, ast.ImportFrom) for alias in node.names]
+            taken += [node.name for node in tree.body if isinstance(node, ast.ClassDef)]
+            given = list(bound_names(tree))
+            for word in taken:
+                own = sum(1 for node in tree.body if isinstance(node, ast.ClassDef) and node.name == word)
+                self.assertEqual(given.count(word), own, (path, word))
+
+    def test_no_name_is_a_method_and_an_attribute(self):
+        for path in files():
+            for node in ast.walk(tree_of(path)):
+                if isinstance(node, ast.ClassDef):
+                    methods = {part.name for part in node.body if isinstance(part, ast.FunctionDef)}
+                    stored = {
+                        part.attr for part in ast.walk(node)
+                        if isinstance(part, ast.Attribute) and isinstance(part.ctx, ast.Store)
+                    }
+                    self.assertEqual(methods & stored, set(), (path, node.name))
+
+    def test_no_two_files_import_from_each_other(self):
+        leads = {}
+        for path in files():
+            found = [node.module for node in ast.walk(tree_of(path)) if isinstance(node, ast.ImportFrom)]
+            leads["roundnews." + path.stem] = found
+        while leads:
+            # Those that import from none of the ones left over.
+            free = [name for name, found in leads.items() if not set(found) & set(leads)]
+            self.assertTrue(free, leads)
+            leads = {name: found for name, found in leads.items() if name not in free}
 
     def test_imports_are_of_the_package(self):
         for path in files():
