@@ -155,3 +155,159 @@ class PlainHouse:
 
     def hear_want(self, neighbour, tellers):
         return ([], [(neighbour, ("news", news)) for news in self.all_news() if news[0] in tellers])
+
+
+class PlainRun:
+    """A run that keeps every letter that ever set out, and at which ticks it's still to be there.
+
+    Lists of marks are kept as the news of those marks, and shown as marks.
+    """
+
+    def __init__(self, make, net, fates):
+        self.make, (self.many, self.streets), self.fates = make, net, list(fates)
+        self.homes = [self.joined(PlainHouse(house, make, 0), [True] * len(net[1])) for house in range(net[0])]
+        self.ups = [True] * len(self.streets)
+        self.tick, self.letters, self.rows = 0, [], []
+
+    def joined(self, home, ups):
+        for (one, other, _), is_up in zip(self.streets, ups):
+            if is_up and home.house in (one, other):
+                home.join(other if home.house == one else one)
+        return home
+
+    def send(self, house, neighbour, letter):
+        (street, wait), = [
+            (at, row[2]) for at, row in enumerate(self.streets) if {house, neighbour} == {row[0], row[1]}
+        ]
+        due = [self.tick + wait]
+        for number, what in self.fates:
+            if number == len(self.letters):
+                due = {"lose": [], "late": [due[0] + what[-1]] if what[0] == "late" else []}.get(what[0], due)
+                if what[0] == "twice":
+                    due = due + [due[0] + what[1]]
+        self.letters.append({"street": street, "ends": (house, neighbour), "what": letter, "at": self.tick, "due": due})
+
+    def send_list(self, house, neighbours=None):
+        home = self.homes[house]
+        for neighbour in sorted(home.near) if neighbours is None else neighbours:
+            self.send(house, neighbour, ("list", home.all_news()))
+
+    def hear(self, letter):
+        sender, house = letter["ends"]
+        word, what = letter["what"]
+        passed = self.tick - letter["at"]
+        home = self.homes[house]
+        if word == "want":
+            return home.hear_want(sender, what)
+        older = [(news[0], news[1], news[2] + passed, news[3]) for news in ([what] if word == "news" else what)]
+        return home.hear_news(sender, older[0]) if word == "news" else home.hear_list(sender, older)
+
+    def step(self, events):
+        told = []
+        for letter in list(self.letters):
+            if self.tick in letter["due"]:
+                letter["due"].remove(self.tick)
+                happened, mailing = self.hear(letter)
+                told += [(row[0], letter["ends"][1], *row[1:]) for row in happened]
+                for neighbour, answer in mailing:
+                    self.send(letter["ends"][1], neighbour, answer)
+        for event in events:
+            told += self.do(*event)
+        if self.tick in range(0, self.tick + 1, self.make[4]):
+            for house in range(self.many):
+                self.send_list(house)
+        told += self.end_tick()
+        self.rows += [(self.tick, row) for row in told]
+        self.tick += 1
+        return told
+
+    def do(self, word, number, words=None):
+        if word in ("tell", "take"):
+            self.homes[number].wish(words)
+        if word == "fall":
+            self.homes[number] = self.joined(PlainHouse(number, self.make, self.make[1]), self.ups)
+            self.send_list(number)
+            return [("fell", number)]
+        if word in ("down", "up") and self.ups[number] is not (word == "up"):
+            one, other, _ = self.streets[number]
+            self.ups[number] = word == "up"
+            if word == "up":
+                self.homes[one].join(other)
+                self.homes[other].join(one)
+                self.send_list(one, [other])
+                self.send_list(other, [one])
+            else:
+                self.homes[one].part(other)
+                self.homes[other].part(one)
+                for letter in self.letters:
+                    letter["due"] = [] if letter["street"] == number else letter["due"]
+        return []
+
+    def end_tick(self):
+        told = []
+        for house, home in enumerate(self.homes):
+            wishes = len(home.wishes)
+            for neighbour, letter in home.speak():
+                self.send(house, neighbour, letter)
+            if wishes > len(home.wishes):
+                told.append(("told", house, home.last, home.mine[0][3]))
+        for house, home in enumerate(self.homes):
+            told += [("ended", house, teller) for teller in home.tick()]
+        return told
+
+    def under_way(self):
+        found = []
+        for number, letter in enumerate(self.letters):
+            word, what = letter["what"]
+            shown = (word, tuple(mark(news) for news in what)) if word == "list" else (word, what)
+            found += [(due, number, *letter["ends"], shown) for due in letter["due"]]
+        return sorted(found, key=lambda row: (row[0], row[1]))
+
+    def shown(self):
+        """All that a Run's methods tell, but step."""
+        return (
+            self.tick, self.rows, [home.all_news() for home in self.homes], [home.last for home in self.homes],
+            self.ups, len(self.letters), self.under_way())
+
+
+def plain_last_taken(log, house, teller):
+    """From the last one back to the house's last fall."""
+    for tick, what in reversed(log):
+        if what[:2] == ("fell", house):
+            return None
+        if what[:2] == ("took", house) and what[3][0] == teller:
+            return (tick, what[3])
+    return None
+
+
+def plain_first_wrong(log):
+    """For each place, the rows ahead of it that count."""
+    for place, (tick, what) in enumerate(log):
+        if what[0] != "took":
+            continue
+        house, teller = what[1], what[3][0]
+        cuts = [at for at in range(place) if log[at][1] in (("fell", house), ("dropped", house, teller))]
+        for at in range(max(cuts, default=0), place):
+            other = log[at][1]
+            if other[:2] == ("took", house) and other[3][0] == teller:
+                if tick - what[3][2] < log[at][0] - other[3][2]:
+                    return place
+    return None
+
+
+def plain_shows_trail(net, log, house, teller, thing):
+    """Whether a list of pairs of numbers is such a trail."""
+    last_tick, (_, number, age, words) = plain_last_taken(log, house, teller)
+    told = last_tick - age
+    if thing[0] != (told, teller) or thing[-1] != (last_tick, house):
+        return False
+    if (told, ("told", teller, number, words)) not in log:
+        return False
+    for (tick, one), (later, other) in zip(thing, thing[1:]):
+        waits = [street[2] for street in net[1] if {one, other} == {street[0], street[1]}]
+        if not waits or later < tick + waits[0]:
+            return False
+        news = [(teller, number, later - told, words)]
+        if not any(row == (later, ("took", other, one, news[0])) for row in log):
+            return False
+    return True

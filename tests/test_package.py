@@ -16,6 +16,9 @@ INTERFACE = {
     },
     "makes.py": {"is_make": 1, "most_alive": 1, "jump": 1, "is_safe": 1, "least_round": 2},
     "exchange.py": {"exchange": 3, "after": 4},
+    "nets.py": {"is_net": 1, "near": 3, "parts": 2, "far": 3, "hops": 3},
+    "waves.py": {"waves": 5, "last_wave": 4},
+    "trails.py": {"told_at": 2, "last_taken": 3, "trail": 3, "first_wrong": 1},
 }
 # How many arguments each method takes beside its own object; of __init__ those of the class.
 CLASSES = {
@@ -26,7 +29,12 @@ CLASSES = {
         "__init__": 3, "join": 1, "part": 1, "wish": 1, "speak": 0, "lists": 0, "hear": 2, "tick": 0, "number": 0,
         "own": 0, "has_wish": 0, "neighbours": 0, "held": 0,
     },
+    ("runs.py", "Run"): {
+        "__init__": 3, "step": 1, "now": 0, "log": 0, "held": 1, "number": 1, "up": 0, "sent": 0, "under_way": 0,
+    },
 }
+# What may be imported from elsewhere.
+LIBRARY = {"heapq": {"heappush", "heappop"}}
 ERRORS = {
     "NewsError": "ValueError", "NoHouse": "NewsError", "NoStreet": "NewsError", "BadText": "NewsError",
     "BadRow": "NewsError",
@@ -147,7 +155,11 @@ class Language(unittest.TestCase):
                 self.assertNotIsInstance(node, ast.Import, path)
                 if isinstance(node, ast.ImportFrom):
                     self.assertEqual(node.level, 0, path)
-                    self.assertTrue(node.module.startswith("roundnews."), path)
+                    names = {alias.name for alias in node.names if alias.asname is None}
+                    self.assertEqual(len(names), len(node.names), path)
+                    if not node.module.startswith("roundnews."):
+                        self.assertLessEqual(names, LIBRARY.get(node.module, set()), path)
+                        self.assertIn(node.module, LIBRARY, path)
 
 
 if __name__ == "__main__":
