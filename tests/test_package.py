@@ -19,6 +19,10 @@ INTERFACE = {
     "nets.py": {"is_net": 1, "near": 3, "parts": 2, "far": 3, "hops": 3},
     "waves.py": {"waves": 5, "last_wave": 4},
     "trails.py": {"told_at": 2, "last_taken": 3, "trail": 3, "first_wrong": 1},
+    "trailcheck.py": {"shows_trail": 5},
+    "calm.py": {"is_settled": 4, "calm": 3, "speaks_by": 3},
+    "texts.py": {"news_text": 1, "news_from": 2, "net_text": 1, "net_from": 1},
+    "desk.py": {"answers": 1},
 }
 # How many arguments each method takes beside its own object; of __init__ those of the class.
 CLASSES = {
